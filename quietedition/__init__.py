@@ -1,0 +1,1 @@
+"""Quietedition: whether any client can notice a library's new edition."""
