@@ -71,13 +71,40 @@ INTERFACE = {
     },
     "facts": {"facts": "linked", "what_parts": "objects first second", "table": "linked"},
     "ordering": {"first_order": "edition"},
+    "scope": {
+        "landed": "edition name noted",
+        "Scope": {"__init__": "edition given", "reach": "name tag=0", "why": "name tag=0", "targets": "", "entered": ""},
+    },
+    "loading": {
+        "load": "linked edition",
+        "Image": {"reach": "unit name tag=0", "why": "unit name tag=0", "reach_of_edition": "name tag=0",
+                  "why_of_edition": "name tag=0", "there": "name", "targets": "", "lost": "", "__eq__": "other"},
+    },
+    "obstacles": {
+        "linking_obstacles": "elder newer", "loading_obstacles": "elder newer",
+        "Obstacles": {"__init__": "elder newer stage", "had_by": "linked", "client": "row", "__iter__": "",
+                      "__len__": "", "__contains__": "row"},
+    },
+    "core": {"Core": {
+        "__init__": "edition given", "enter": "name tag n", "open_first": "name", "load": "", "go": "values frames",
+        "count": "values frames"}},
+    "machine": {"Machine": {"__init__": "image * limit=3000", "events": ""}},
+    "world": {
+        "Moment": {}, "World": {"__init__": "assembled linked loaded", "of": "edition", "__eq__": "other"},
+        "worlds": "elder newer moment",
+    },
 }
 
 
 def parameters(function, skip):
     """The names of the parameters, with their default values."""
     told = list(inspect.signature(function).parameters.values())[skip:]
-    return " ".join(part.name if part.default is part.empty else f"{part.name}={part.default}" for part in told)
+    words = []
+    for part in told:
+        if part.kind is part.KEYWORD_ONLY and "*" not in words:
+            words.append("*")
+        words.append(part.name if part.default is part.empty else f"{part.name}={part.default}")
+    return " ".join(words)
 
 
 class Interface(unittest.TestCase):
