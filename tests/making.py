@@ -52,7 +52,8 @@ def some_value(chance, places, numbers, others):
 
 def some_row(chance, places, numbers, others, called):
     """One row; the numbers behind `else` are 1."""
-    word = chance.choice(["tell", "tell", "same", "end"] + ["set"] * (2 if places else 0) + ["call"] * (2 if called else 0))
+    words = ["tell", "tell", "same", "end"] + ["set"] * (2 if places else 0) + ["call"] * (2 if called else 0)
+    word = chance.choice(words)
     told = [some_value(chance, places, numbers, others) for _ in range(2)]
     if word == "set":
         return f"set {chance.choice(places)} {told[0]}"

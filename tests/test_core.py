@@ -77,7 +77,8 @@ class Rows(unittest.TestCase):
 
     def test_end(self):
         self.assertEqual(self.go("end", "tell 1"), (("home",), (1, 2), (), 1))
-        core = Core(edition("routine f open", "call g it", "tell 1", "routine g open", "same it 4 else 1", "end", "tell 2"), [])
+        core = Core(edition("routine f open", "call g it", "tell 1",
+                            "routine g open", "same it 4 else 1", "end", "tell 2"), [])
         self.assertEqual(core.go((), core.enter("f", 0, 4)), (("tell", 1), (), (member("f", 2, None),)))
         self.assertEqual(core.count((), core.enter("f", 0, 4)), 4)
         self.assertEqual(core.go((), core.enter("f", 0, 5)),

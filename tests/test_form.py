@@ -93,6 +93,26 @@ INTERFACE = {
         "Moment": {}, "World": {"__init__": "assembled linked loaded", "of": "edition", "__eq__": "other"},
         "worlds": "elder newer moment",
     },
+    "runs": {"image_of": "client world", "outcome": "client world * limit=3000", "unlike": "first second",
+             "is_served": "client edition"},
+    "patterns": {
+        "pattern": "values kept", "realise": "entries kept", "choices": "values kept", "all_patterns": "length kept",
+        "is_pattern": "thing length kept", "move_pattern": "entries at entry kept"},
+    "renaming": {
+        "numbers_of": "edition", "numbers_in": "client",
+        "Renaming": {
+            "__init__": "pairs=()", "swap": "n m", "__call__": "n", "__len__": "", "__eq__": "other", "__mul__": "other",
+            "keeps": "numbers", "inverse": "", "of_edition": "edition", "of_unit": "unit", "of_client": "client",
+            "of_rows": "rows"}},
+    "doors": {
+        "Door": {"__init__": "name tag first second", "__eq__": "other"},
+        "doors": "elder newer moment manners given", "kept_numbers": "elder newer moment",
+        "unlike_numbers": "elder newer", "given_sets": "elder newer manners", "at_once": "elder newer moment manners",
+        "check_bounds": "elder newer moment manners"},
+    "joint": {"Joint": {
+        "__init__": "elder newer moment manners given", "load": "", "moves": "values is_top", "begin": "values move",
+        "go": "values frames others", "look": "values"}},
+    "saturation": {"Saturation": {"__init__": "joint", "entries": "", "floor": "limit"}},
 }
 
 
@@ -168,6 +188,10 @@ class Form(unittest.TestCase):
                 if not isinstance(node, ast.ImportFrom):
                     continue
                 self.assertIn(node, tree.body)
+                if node.module == "heapq":
+                    self.assertEqual([(alias.name, alias.asname) for alias in node.names],
+                                     [("heappop", None), ("heappush", None)])
+                    continue
                 package, name = node.module.split(".")
                 self.assertEqual((package, node.level), ("quietedition", 0))
                 steps[path.stem].append(name)
