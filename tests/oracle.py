@@ -202,6 +202,9 @@ class Writer:
                     turn = self.count
                     self.count += 1
                     self.turns[name].append((turn, self.rows(inner)))
+            if move[0] == "call":
+                # So that a run which comes home is unlike one that calls back, whatever follows.
+                rows.append("tell 99")
         return rows
 
 
