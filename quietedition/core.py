@@ -92,7 +92,8 @@ class Core:
             if word == "set":
                 values[act] = number
             elif word == "same":
-                at += 0 if number == worth(act, values, argument) else skip
+                if number != worth(act, values, argument):
+                    at += skip
             elif word != "tell":
                 argument = None
             frames.append((block, at + 1, argument))

@@ -110,11 +110,13 @@ class Run:
         if isinstance(row, End):
             top.at = len(top.rows)
         elif isinstance(row, There):
-            top.at += 0 if self.image.there(row.name) else row.skip
+            if not self.image.there(row.name):
+                top.at += row.skip
         elif isinstance(row, Same):
             left = self.take(top, row.left, told)
             right = self.take(top, row.right, told)
-            top.at += 0 if left == right else row.skip
+            if left != right:
+                top.at += row.skip
         elif isinstance(row, Tell):
             told.append(("tell", "client", self.take(top, row.value, told)))
         elif isinstance(row, Put):

@@ -313,6 +313,12 @@ class Form(unittest.TestCase):
                 self.assertIsInstance(node.func.value, ast.Constant, where)
             self.assertFalse(name.endswith(".sort"), where)
 
+    def test_what_is_added_in_place_is_plain(self):
+        """So that nothing behind `+=` was handed what it changes (L23)."""
+        for where, node in self.nodes(ast.AugAssign):
+            told = node.value.value if isinstance(node.value, ast.Attribute) else node.value
+            self.assertIsInstance(told, (ast.Constant, ast.Name), where)
+
     def test_what_is_shown_ends_with_a_plain_return(self):
         for where, node in self.nodes(ast.FunctionDef):
             if node.name in ("__str__", "__repr__"):
