@@ -81,18 +81,9 @@ def doors(elder, newer, moment, manners, given):
     return [door for door in found if door is not None]
 
 
-def least_wanted(elder, newer):
-    """The first notice of a name that only the newer edition wants, or None."""
-    names = [name for name in newer.wants if name not in elder.wants]
-    return ("wanted", min(names)) if len(names) > 0 else None
-
-
-def first_refused(found):
-    """The first notice of a door that the second world refuses, or None."""
-    for door in found:
-        if door.second is None:
-            return ("door", door.name, door.tag)
-    return None
+def wanted_notices(elder, newer):
+    """The notices of names that only the newer edition wants, ascending."""
+    return [("wanted", name) for name in sorted(newer.wants) if name not in elder.wants]
 
 
 def open_cells(edition):
@@ -100,37 +91,40 @@ def open_cells(edition):
     return sorted([cell for cell in edition.cells if size_of(edition, cell) is not None])
 
 
-def least_number(elder, newer, manners, found):
-    """The first notice of a number that only the elder edition has and that a client can name, or None."""
+def number_notices(elder, newer, manners, found):
+    """The notices of numbers that only the elder edition has and that a client with these doors can name, ascending."""
     names = [name for name in elder.numbers if name not in newer.numbers]
     is_usable = "shows" in manners or ("straight" in manners and len(open_cells(elder)) > 0)
-    if len(names) == 0 or not (is_usable or len(found) > 0):
-        return None
-    return ("number", min(names))
+    return [("number", name) for name in sorted(names) if is_usable or len(found) > 0]
 
 
-def least_cell(elder, newer, moment):
-    """The first notice of an open cell that the second world refuses, or None."""
+def cell_notices(elder, newer, moment):
+    """The notices of open cells that the second world refuses, ascending."""
+    notices = []
     for cell in open_cells(elder):
         had = size_of(elder, cell)
         size = size_of(newer, cell)
         if size is None or size < had or (moment == Moment.LOADED and size > had):
-            return ("cell", cell, had - 1)
-    return None
+            notices.append(("cell", cell, had - 1))
+    return notices
+
+
+def all_at_once(elder, newer, moment, manners):
+    """All that clients notice without a move, in the order in which it counts; raises BadMoment."""
+    found = doors(elder, newer, moment, manners, elder.wants)
+    notices = wanted_notices(elder, newer)
+    notices.extend([("door", door.name, door.tag) for door in found if door.second is None])
+    if moment == Moment.ASSEMBLED:
+        notices.extend(number_notices(elder, newer, manners, found))
+    if "straight" in manners:
+        notices.extend(cell_notices(elder, newer, moment))
+    return notices
 
 
 def at_once(elder, newer, moment, manners):
     """What a client notices without a move, or None; raises BadMoment."""
-    found = doors(elder, newer, moment, manners, elder.wants)
-    notices = [least_wanted(elder, newer), first_refused(found)]
-    if moment == Moment.ASSEMBLED:
-        notices.append(least_number(elder, newer, manners, found))
-    if "straight" in manners:
-        notices.append(least_cell(elder, newer, moment))
-    for notice in notices:
-        if notice is not None:
-            return notice
-    return None
+    notices = all_at_once(elder, newer, moment, manners)
+    return notices[0] if len(notices) > 0 else None
 
 
 def check_bounds(elder, newer, moment, manners):

@@ -75,12 +75,15 @@ class Joint:
             if event[0] != "tell":
                 return (event, one + two, frames, others)
 
+    def looks(self, values):
+        """The looks of a client that has control with these joint values, in their order."""
+        spots = [place for place, (one, two) in self.spots.items() if values[one] != values[two]]
+        return [("look", cell, index) for cell, index in spots] + self.late_looks
+
     def look(self, values):
         """The first look of a client that has control with these joint values, or None."""
-        for (cell, index), (one, two) in self.spots.items():
-            if values[one] != values[two]:
-                return ("look", cell, index)
-        return self.late_looks[0] if len(self.late_looks) > 0 else None
+        looks = self.looks(values)
+        return looks[0] if len(looks) > 0 else None
 
 
 def asked(elder, newer, given):

@@ -21,18 +21,25 @@ def told_rows(told):
     return rows + [("lost", name) if how == "lost" else ("end", how)]
 
 
-def outcome(client, world, *, limit=LIMIT):
-    """The told rows of a client in a world."""
+def run_of(client, world, limit):
+    """The told rows of a client in a world, and the events of its run, none if a stage refuses it."""
     try:
         image = image_of(client, world)
     except NotAssembled as unnamed:
-        return [("refused", "assembling", "number", unnamed.name)]
+        return ([("refused", "assembling", "number", unnamed.name)], [])
     except NotLinked as unlinked:
-        return [("refused", "linking", unlinked.cause, unlinked.name)]
+        return ([("refused", "linking", unlinked.cause, unlinked.name)], [])
     except NotLoaded as unloaded:
-        return [("refused", "loading", unloaded.cause, unloaded.name)]
+        return ([("refused", "loading", unloaded.cause, unloaded.name)], [])
     machine = Machine(image, limit=limit)
-    return told_rows(list(machine.events()))
+    told = list(machine.events())
+    return (told_rows(told), told)
+
+
+def outcome(client, world, *, limit=LIMIT):
+    """The told rows of a client in a world."""
+    rows, _ = run_of(client, world, limit)
+    return rows
 
 
 def unlike(first, second):

@@ -3,8 +3,10 @@ and the manners of clients (8.1)."""
 
 import heapq
 
+from quietedition.doors import doors, given_sets, unlike_numbers
+from quietedition.joint import Joint
 from quietedition.manners import Manners
-from quietedition.patterns import pattern, realise
+from quietedition.patterns import all_patterns, pattern, realise
 from quietedition.reaching import leaving
 from quietedition.rows import Call, Put, There
 from quietedition.units import Client
@@ -121,48 +123,175 @@ def is_closed_below(joint, limit, entries):
     return True
 
 
-class Replay:
-    """The moves of a clue, played with a joint game; `notices` says whether the notice comes in the last move."""
+def notices_by_words(elder, newer, moment, manners):
+    """The tuples of 7.6 that apply."""
+    cells = [cell for cell, (access, _) in elder.cells.items() if access == "open"]
+    found = doors(elder, newer, moment, manners, elder.wants)
+    told = [("wanted", name) for name in newer.wants if name not in elder.wants]
+    told += [("door", door.name, door.tag) for door in found if door.second is None]
+    usable = found or "shows" in manners or ("straight" in manners and cells)
+    told += [("number", name) for name in elder.numbers
+             if moment == "assembled" and name not in newer.numbers and usable]
+    for cell in cells if "straight" in manners else []:
+        size = len(elder.cells[cell][1])
+        access, integers = newer.cells.get(cell, ("hidden", ()))
+        if access == "hidden" or len(integers) < size or (moment == "loaded" and len(integers) > size):
+            told.append(("cell", cell, size - 1))
+    return told
 
-    def __init__(self, joint, moves):
-        self.joint = joint
+
+class Replay:
+    """The moves of a clue, played with a joint game: fails at the first word of 7.11 that does not hold.
+
+    What things are is told by how they are shown, as True is equal to 1.
+    """
+
+    def __init__(self, elder, newer, moment, manners, given, moves):
+        self.elder = elder
+        self.newer = newer
+        self.manners = manners
+        self.given = given
+        self.joint = Joint(elder, newer, moment, manners, given)
+        self.doors = [repr((door.name, door.tag)) for door in doors(elder, newer, moment, manners, given)]
+        self.unlike = [name for name in unlike_numbers(elder, newer) if moment == "assembled"]
+        self.spots = [place for place in elder.places() if elder.cells[place[0]][0] == "open" and "straight" in manners]
         self.cost = 0
         self.noticed = False
         assert moves[0][0] == "load"
-        self.play(joint.first_values, moves, True)
+        self.play(self.joint.first_values, moves, True)
         assert self.noticed
 
+    def looks(self, values):
+        for place in self.spots:
+            at = self.elder.places().index(place)
+            if values[at] != values[len(self.elder.places()) + self.newer.places().index(place)]:
+                yield ("look",) + place
+        for name in self.elder.offers() + self.newer.offers():
+            both = name in self.elder.offers() and name in self.newer.offers()
+            if "asks" in self.manners and not both and name not in self.given:
+                yield ("ask", name)
+        for name in self.unlike if "shows" in self.manners else []:
+            yield ("show", name)
+
+    def check_value(self, value):
+        assert type(value) is tuple
+        kind, what = value
+        if kind == "named":
+            assert what in self.unlike
+        else:
+            assert kind == "number" and type(what) is int and abs(what) < 10 ** 9
+
     def play(self, values, moves, is_top):
+        assert type(moves) is tuple
         for at, move in enumerate(moves):
-            assert not self.noticed
+            assert not self.noticed and type(move) is tuple
             if move[0] in ("look", "ask", "show"):
-                assert self.joint.look(values) is not None
+                assert repr(move) in [repr(look) for look in self.looks(values)]
                 self.noticed = True
-                continue
-            assert (move[0] == "load") == (at == 0 and is_top and self.cost == 0)
-            if move[0] == "write":
+            elif move[0] == "write":
                 self.cost += 1
-                assert move in self.joint.moves(values, is_top) or move[3][0] == "number"
+                _, cell, index, value = move
+                self.check_value(value)
+                assert repr((cell, index)) in [repr(place) for place in self.spots]
                 values = self.joint.begin(values, move)[0]
-                continue
-            self.cost += move[0] == "call"
-            begun = self.joint.load() if move[0] == "load" else self.joint.begin(values, move[:-1])
-            values = self.homes(begun, move[-1])
+            elif move[0] == "load":
+                assert at == 0 and is_top and len(move) == 2
+                values = self.homes(self.joint.load(), move[1])
+            else:
+                _, name, tag, value, homes = move
+                self.check_value(value)
+                assert move[0] == "call" and repr((name, tag)) in self.doors and (is_top or "within" in self.manners)
+                assert at > 0 or not is_top
+                self.cost += 1
+                values = self.homes(self.joint.begin(values, move[:4]), homes)
         return values
 
     def homes(self, begun, homes):
+        assert type(homes) is tuple
         event, values, frames, others = self.joint.go(*begun)
-        for name, moves in homes:
+        for at, home in enumerate(homes):
+            assert type(home) is tuple
+            name, moves = home
             assert not self.noticed and event[:2] == ("back", name)
             self.cost += 1
             values = self.play(values, moves, False)
             if self.noticed:
-                assert (name, moves) == homes[-1]
+                assert at == len(homes) - 1
                 return values
             event, values, frames, others = self.joint.go(values, frames, others)
         assert event[0] in ("home", "unlike")
         self.noticed = event[0] == "unlike"
         return values
+
+
+def is_clue_by_words(elder, newer, moment, manners, thing):
+    """Whether any value is a clue (7.11)."""
+    notices = notices_by_words(elder, newer, moment, manners)
+    if repr(thing) in [repr(notice) for notice in notices]:
+        return True
+    try:
+        kind, given, moves = thing
+        assert not notices and type(thing) is tuple and kind == "game"
+        assert repr(given) in [repr(names) for names in given_sets(elder, newer, manners)]
+        Replay(elder, newer, moment, manners, given, moves)
+    except (AssertionError, TypeError, ValueError, IndexError):
+        return False
+    return True
+
+
+def ints_from_zero(thing):
+    return type(thing) is int and thing >= 0
+
+
+class EntriesByWords:
+    """What tables and floors look like, and whether they are closed."""
+
+    def __init__(self, elder, newer, moment, manners):
+        self.sets = given_sets(elder, newer, manners)
+        self.joints = [Joint(elder, newer, moment, manners, given) for given in self.sets]
+        joint = self.joints[0]
+        self.patterns = list(all_patterns(len(joint.first_values), joint.kept))
+        self.shown = {repr(shape) for shape in self.patterns}
+
+    def check_entries(self, thing, size):
+        assert type(thing) is list
+        heads = []
+        for entry in thing:
+            assert type(entry) is tuple and len(entry) == size
+            assert repr(entry[0]) in [repr(names) for names in self.sets]
+            assert entry[1] is None or repr(entry[1]) in self.shown
+            heads.append((entry[0], entry[1] is not None, entry[1] or ()))
+        assert heads == sorted(set(heads))
+
+    def check_states(self, states):
+        assert all(repr(state) in self.shown for state in states)
+        assert list(states) == sorted(set(states))
+
+    def is_table(self, thing):
+        try:
+            self.check_entries(thing, 3)
+            for _, _, states in thing:
+                assert type(states) is tuple
+                self.check_states(states)
+        except (AssertionError, TypeError, ValueError):
+            return False
+        return all(is_closed(joint, [entry[1:] for entry in thing if entry[0] == given])
+                   for given, joint in zip(self.sets, self.joints))
+
+    def is_floor(self, limit, thing):
+        try:
+            self.check_entries(thing, 4)
+            for _, base, reach, states in thing:
+                assert type(states) is tuple and ints_from_zero(reach) and (reach == 0 or base is not None)
+                for pair in states:
+                    assert type(pair) is tuple
+                    _, spent = pair
+                    assert ints_from_zero(spent)
+                self.check_states([state for state, _ in states])
+        except (AssertionError, TypeError, ValueError):
+            return False
+        return all(is_closed_below(joint, limit, [entry[1:] for entry in thing if entry[0] == given])
+                   for given, joint in zip(self.sets, self.joints))
 
 
 def value_text(value):

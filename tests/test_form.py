@@ -113,6 +113,18 @@ INTERFACE = {
         "__init__": "elder newer moment manners given", "load": "", "moves": "values is_top", "begin": "values move",
         "go": "values frames others", "look": "values"}},
     "saturation": {"Saturation": {"__init__": "joint", "entries": "", "floor": "limit"}},
+    "verdicts": {"judge": "elder newer moment manners", "Verdict": {}, "clue_cost": "clue"},
+    "checking": {
+        "is_table": "elder newer moment manners thing", "is_floor": "elder newer moment manners cost thing",
+        "is_clue": "elder newer moment manners thing"},
+    "judging": {"manners_of": "client elder newer"},
+    "trials": {
+        "Trial": {"__init__": "client elder newer moment * limit=3000", "is_served": "", "is_noticing": "", "moves": ""},
+        "passings": "events", "noticed_at": "client elder newer"},
+    "writing": {"written": "verdict"},
+    "cutting": {
+        "removals": "client", "without": "client unit block=None row=None",
+        "cut_steps": "client elder newer moment * limit=3000", "cut": "client elder newer moment * limit=3000"},
 }
 
 
@@ -141,6 +153,8 @@ class Interface(unittest.TestCase):
                     own = vars(found)[method]
                     if isinstance(own, classmethod):
                         own = own.__func__
+                    if isinstance(own, property):
+                        own = own.fget
                     self.assertEqual(parameters(own, 1), told, f"{part}.{method}")
 
 
@@ -274,18 +288,48 @@ class Form(unittest.TestCase):
         values = {part.targets[0].id for _, node in self.nodes(ast.ClassDef) for part in node.body
                   if isinstance(part, ast.Assign)}
         called = {id(node.func) for _, node in self.nodes(ast.Call)}
+        properties = {node.name for _, node in self.nodes(ast.FunctionDef)
+                      if "property" in [ast.unparse(part) for part in node.decorator_list]}
         for where, node in self.nodes(ast.Attribute):
             if id(node) in called:
                 self.assertIn(node.attr, self.functions | METHODS, where)
             else:
-                self.assertIn(node.attr, stored | values, where)
+                self.assertIn(node.attr, stored | values | properties, where)
         decorated = {node.name for _, node in self.nodes(ast.FunctionDef) if node.decorator_list}
         self.assertEqual(decorated & stored, set())
+        methods = [part.name for _, node in self.nodes(ast.ClassDef) for part in node.body
+                   if isinstance(part, ast.FunctionDef)]
+        for name in properties:
+            self.assertEqual(methods.count(name), 1, name)
         for where, node in self.nodes(ast.ClassDef):
             methods = {part.name for part in node.body if isinstance(part, ast.FunctionDef)}
             own = {part.attr for part in ast.walk(node) if isinstance(part, ast.Attribute)
                    and isinstance(part.ctx, ast.Store)}
             self.assertEqual(methods & own, set(), where)
+
+    def test_properties_only_read(self):
+        """So that nothing that reads one changes anything: a list that is told is a new one."""
+        for where, node in self.nodes(ast.FunctionDef):
+            if "property" in [ast.unparse(part) for part in node.decorator_list]:
+                _, told = node.body
+                self.assertIsInstance(told, ast.Return, where)
+                for part in ast.walk(told):
+                    if isinstance(part, ast.Call):
+                        self.assertIn(ast.unparse(part.func), ("list", "tuple"), where)
+
+    def test_generators(self):
+        """Each is iterated where it is called, and nothing else has its name."""
+        names = [node.name for _, node in self.nodes(ast.FunctionDef)
+                 if any(isinstance(part, ast.Yield) for part in ast.walk(node))]
+        fine = {id(node.iter) for _, node in self.nodes(ast.For, ast.comprehension)}
+        fine |= {id(part) for _, node in self.nodes(ast.Call) for part in node.args
+                 if ast.unparse(node.func) in ("list", "tuple", "sorted")}
+        functions = [node.name for _, node in self.nodes(ast.FunctionDef)]
+        for name in names:
+            self.assertEqual(functions.count(name), 1, name)
+        for where, node in self.nodes(ast.Call):
+            if ast.unparse(node.func).split(".")[-1] in names:
+                self.assertIn(id(node), fine, where)
 
     def test_sets_and_iterators_are_used_at_once(self):
         fine = set()

@@ -7,13 +7,13 @@ from quietedition.doors import at_once, check_bounds, given_sets
 from quietedition.editions import Edition
 from quietedition.errors import TooMany
 from quietedition.joint import Joint
-from quietedition.machine import Machine
 from quietedition.manners import Manners
 from quietedition.patterns import is_pattern
 from quietedition.renaming import Renaming
-from quietedition.runs import image_of, is_served, outcome
+from quietedition.runs import is_served, outcome
 from quietedition.saturation import Saturation
 from quietedition.world import Moment, worlds
+from tests.clients import moves_by_words
 from tests.making import changed, edition, some_client, some_edition
 from tests.oracle import Replay, Writer, is_closed, is_closed_below, least_cost, manners_by_words
 
@@ -271,7 +271,7 @@ class AgainstTheWords(unittest.TestCase):
                 self.check_entries(joint, made.entries())
             else:
                 self.assertEqual(made.entries(), [])
-                self.assertEqual(Replay(joint, made.moves).cost, made.cost)
+                self.assertEqual(Replay(elder, newer, moment, manners, given, made.moves).cost, made.cost)
         self.assertGreater(min(costs.get(cost, 0) for cost in (None, 0, 1, 2)), 10)
 
     def check_entries(self, joint, entries):
@@ -298,7 +298,7 @@ class AgainstTheWords(unittest.TestCase):
             self.assertTrue(manners_by_words(client, elder, newer).is_part_of(manners))
             first, second = worlds(elder, newer, moment)
             self.assertNotEqual(outcome(client, first), outcome(client, second))
-            self.assertEqual(moves_of(client, first, second), made.cost)
+            self.assertEqual(moves_by_words(client, elder, newer, moment), made.cost)
             count += 1
         self.assertGreater(count, 100)
 
@@ -320,7 +320,7 @@ class AgainstTheWords(unittest.TestCase):
                     served += 1
                 elif rows != outcome(client, second, limit=80):
                     least = min(cost for cost in costs if cost is not None)
-                    self.assertGreaterEqual(moves_of(client, first, second), least)
+                    self.assertGreaterEqual(moves_by_words(client, elder, newer, moment), least)
         self.assertGreater(served, 200)
 
     def test_renamed_games(self):
@@ -338,21 +338,6 @@ class AgainstTheWords(unittest.TestCase):
                       for base, states in one.entries()]
             self.assertEqual(sorted(wanted[1:]), two.entries()[1:])
             self.assertEqual(wanted[:1], two.entries()[:1])
-
-
-def moves_of(client, first, second):
-    """The moves of a trial (8.3)."""
-    rows = []
-    for world in (first, second):
-        machine = Machine(image_of(client, world))
-        rows.append([event[:2] if event[0] == "into" else event[:3] if event[0] == "write" else event
-                     for event in machine.events() if event[0] in ("into", "out", "write", "tell", "end")])
-    count = 0
-    for one, two in zip(*rows):
-        if one != two:
-            break
-        count += one[0] in ("into", "out", "write")
-    return count
 
 
 if __name__ == "__main__":
