@@ -125,6 +125,23 @@ INTERFACE = {
     "cutting": {
         "removals": "client", "without": "client unit block=None row=None",
         "cut_steps": "client elder newer moment * limit=3000", "cut": "client elder newer moment * limit=3000"},
+    "families": {
+        "family": "sets", "least": "sets", "greatest": "sets", "barring": "sets among", "complements": "sets among",
+        "parts": "among", "meets": "first second", "is_antichain": "sets"},
+    "surveys": {
+        "survey": "elder newer moment * among=None",
+        "Survey": {"least_noticing": "", "greatest_quiet": "", "quiet": "manners", "verdict": "manners",
+                   "client": "manners", "clients": "", "holds_for": "other", "lines": ""}},
+    "moments": {
+        "all_moments": "elder newer * among=None", "moments_quiet": "elder newer manners", "is_possible": "triple",
+        "numbers_agree": "elder newer", "notes_agree": "elder newer"},
+    "houses": {"House": {
+        "__init__": "editions", "__len__": "", "__getitem__": "at", "__iter__": "", "verdict": "i j moment manners",
+        "matrix": "moment manners", "clients": "moment manners", "eldest": "moment manners"}},
+    "chains": {"broken": "quiet", "breaks": "house moment manners", "Break": {}},
+    "drafts": {"Draft": {"__init__": "elder newer", "applied": "", "apply": "line", "text": "", "edition": ""}},
+    "mends": {
+        "mended": "elder newer lines", "least_mends": "elder newer moment manners pool", "Mends": {"is_monotone": ""}},
 }
 
 
@@ -235,7 +252,10 @@ class Form(unittest.TestCase):
             for node in tree.body[1:]:
                 self.assertIsInstance(node, (ast.ImportFrom, ast.FunctionDef, ast.ClassDef, ast.Assign), path.name)
                 if isinstance(node, ast.Assign):
-                    ast.literal_eval(node.value)
+                    is_table = isinstance(node.value, ast.Dict) and isinstance(node.value.values[0], ast.Name)
+                    for part in node.value.values if is_table else []:
+                        self.assertIn(part.id, names, path.name)
+                    ast.literal_eval(ast.unparse(node.value.keys[0]) if is_table else node.value)
                     names.append(node.targets[0].id)
                 elif isinstance(node, ast.ImportFrom):
                     names.extend(alias.name for alias in node.names)
