@@ -7,6 +7,10 @@ from quietedition.lists import ascending
 from quietedition.patterns import is_pattern
 from quietedition.playing import Play, is_integer, is_row
 
+# The number of parts of an entry of each.
+TABLE = 3
+FLOOR = 4
+
 
 class Form:
     """What the entries of tables and floors of a question look like."""
@@ -36,15 +40,13 @@ class Form:
             return False
         return self.is_states(tuple([part[0] for part in thing])) and all([is_cost(part[1]) for part in thing])
 
-    def is_table_entry(self, thing):
-        """Whether the thing is an entry of a table."""
-        return is_row(thing, 3) and self.has_head(thing) and self.is_states(thing[2])
-
-    def is_floor_entry(self, thing):
-        """Whether the thing is an entry of a floor."""
-        if not is_row(thing, 4) or not self.has_head(thing) or not is_cost(thing[2]):
+    def is_entry(self, thing, size):
+        """Whether the thing is an entry of a table or, with one part more, of a floor."""
+        if not is_row(thing, size) or not self.has_head(thing):
             return False
-        return (thing[1] is not None or thing[2] == 0) and self.is_spent(thing[3])
+        if size == TABLE:
+            return self.is_states(thing[2])
+        return is_cost(thing[2]) and (thing[1] is not None or thing[2] == 0) and self.is_spent(thing[3])
 
 
 def is_cost(thing):
@@ -58,13 +60,18 @@ def are_in_order(entries):
     return heads == ascending(heads)
 
 
-def is_table(elder, newer, moment, manners, thing):
-    """Whether the thing is a closed table; raises BadMoment and TooMany."""
+def may_be_closed(elder, newer, moment, manners, thing, size):
+    """Whether nobody notices at once, and the thing has the entries of a table or a floor; raises as `is_table`."""
     check_bounds(elder, newer, moment, manners)
     form = Form(elder, newer, moment, manners)
-    if not isinstance(thing, list) or not all([form.is_table_entry(entry) for entry in thing]):
+    if not isinstance(thing, list) or not all([form.is_entry(entry, size) for entry in thing]):
         return False
-    if not are_in_order(thing) or at_once(elder, newer, moment, manners) is not None:
+    return are_in_order(thing) and at_once(elder, newer, moment, manners) is None
+
+
+def is_table(elder, newer, moment, manners, thing):
+    """Whether the thing is a closed table; raises BadMoment and TooMany."""
+    if not may_be_closed(elder, newer, moment, manners, thing, TABLE):
         return False
     entries = [(given, base, 0, [(state, 0) for state in states]) for given, base, states in thing]
     return are_closed(elder, newer, moment, manners, entries, NO_LIMIT)
@@ -72,11 +79,7 @@ def is_table(elder, newer, moment, manners, thing):
 
 def is_floor(elder, newer, moment, manners, cost, thing):
     """Whether the thing is a floor that is closed below the cost; raises BadMoment and TooMany."""
-    check_bounds(elder, newer, moment, manners)
-    form = Form(elder, newer, moment, manners)
-    if not isinstance(thing, list) or not all([form.is_floor_entry(entry) for entry in thing]):
-        return False
-    if not are_in_order(thing) or at_once(elder, newer, moment, manners) is not None:
+    if not may_be_closed(elder, newer, moment, manners, thing, FLOOR):
         return False
     return are_closed(elder, newer, moment, manners, thing, cost)
 

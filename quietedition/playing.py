@@ -16,7 +16,7 @@ def is_row(thing, size):
 class Play:
     """The game of a given set, as far as some moves of any kind are played.
 
-    `levels` has the moves of each level that is not through, and how many of them are begun: those of the top
+    `open_levels` has the moves of each level that is not through, and how many of them are begun: those of the top
     level first, then those of the home in which the client is. `runs` has for each such home the run that waits:
     all homes of its move, how many of them have come, and the frames of both editions.
     """
@@ -24,23 +24,23 @@ class Play:
     def __init__(self, joint, moves):
         self.joint = joint
         self.integers = joint.first_values
-        self.levels = [(moves, 0)]
+        self.open_levels = [(moves, 0)]
         self.runs = []
         self.is_noticed = False
 
     def is_right(self):
         """Whether all moves can be played, and the notice comes in the very last one."""
-        while len(self.levels) > 0:
+        while len(self.open_levels) > 0:
             if not self.step():
                 return False
         return self.is_noticed
 
     def step(self):
         """Plays the next move of the innermost level, or comes home from it; whether that can be."""
-        moves, at = self.levels.pop()
+        moves, at = self.open_levels.pop()
         if at < len(moves):
-            self.levels.append((moves, at + 1))
-            return not self.is_noticed and self.play(moves[at], at == 0 and len(self.levels) == 1)
+            self.open_levels.append((moves, at + 1))
+            return not self.is_noticed and self.play(moves[at], at == 0 and len(self.open_levels) == 1)
         if len(self.runs) == 0:
             return True
         homes, come, frames, others = self.runs.pop()
@@ -58,7 +58,7 @@ class Play:
             return False
         name, moves = homes[come]
         self.runs.append((homes, come + 1, frames, others))
-        self.levels.append((moves, 0))
+        self.open_levels.append((moves, 0))
         return name == event[1] and isinstance(moves, tuple)
 
     def play(self, move, is_first):
@@ -84,7 +84,7 @@ class Play:
         if not is_row(move, 5) or not is_integer(move[2]) or not self.is_value(move[3]):
             return False
         has_door = any([door.name == move[1] and door.tag == move[2] for door in self.joint.doors])
-        return has_door and (len(self.levels) == 1 or self.joint.is_within)
+        return has_door and (len(self.open_levels) == 1 or self.joint.is_within)
 
     def is_write(self, move):
         """Whether the move is a write that the client may do."""

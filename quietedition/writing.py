@@ -27,9 +27,9 @@ class Script:
 
     def __init__(self, given):
         self.turns = {name: {} for name in given}
-        self.count = 0
+        self.next_turn = 0
 
-    def rows(self, moves):
+    def rows_for(self, moves):
         """The rows that do some moves; notes what is to be done in their homes."""
         rows = []
         for move in moves:
@@ -41,11 +41,11 @@ class Script:
     def note_homes(self, homes):
         """Notes what is to be done in the homes of a move."""
         for name, moves in homes:
-            turn = self.count
-            self.count += 1
+            turn = self.next_turn
+            self.next_turn += 1
             # The turn takes its place here, ahead of those that come in the moves of this home.
             self.turns[name][turn] = []
-            self.turns[name][turn] = self.rows(moves)
+            self.turns[name][turn] = self.rows_for(moves)
 
     def block(self, code, name):
         """The rows of the shared block of a given name."""
@@ -80,7 +80,7 @@ def rows_of_move(move):
 def written_game(given, moves):
     """The client that gives these names and does these moves."""
     script = Script(given)
-    start = script.rows(moves)
+    start = script.rows_for(moves)
     return client_of(script.shared(), start + [End()])
 
 
