@@ -6,9 +6,9 @@ from quietedition.rows import Call
 from quietedition.scope import head_of
 from quietedition.words import is_index, is_name, is_tag
 
-def is_exact(block, name, tag):
-    """Whether the block is the member of that name and real tag."""
-    return isinstance(block, Member) and block.name == name and block.tag == tag
+def is_exact(member, name, tag):
+    """Whether the member has that name and real tag."""
+    return member.name == name and member.tag == tag
 
 
 def with_blocks(made, blocks):

@@ -9,6 +9,7 @@ from quietedition.errors import BadMoment, TooMany
 from quietedition.joint import Joint
 from quietedition.manners import Manners
 from quietedition.patterns import pattern, realise
+from quietedition.saturation import Saturation
 from quietedition.verdicts import clue_cost, judge
 from quietedition.world import Moment
 from tests.making import edition
@@ -282,6 +283,34 @@ class Floors(unittest.TestCase):
                 if reach > entry[2] and entry[2] < 3:
                     self.assertFalse(wanted)
         self.assertEqual([entry[2] for entry in floor], [0, 2, 2, 2, 2])
+
+    def test_each_number_within_calls_back(self):
+        """Floors of a game in which the client moves within a call back, and the run goes on behind that."""
+        made = edition("cell p hidden 0", "wants w", "routine f open", "set p.0 0", "call w 0", "same p.0 3 else 1",
+                       "set p.0 5", "routine put open", "set p.0 3")
+        within = Manners.of("within")
+        game = Saturation(Joint(made, made, "linked", within, ("w",)))
+        floor = [(("w",),) + entry for entry in game.floor(7)]
+        kept = {n: (("kept", n),) * 2 for n in (0, 3, 5)}
+        self.assertEqual(floor, [(("w",), None, 0, ((kept[0], 0), (kept[3], 1), (kept[5], 3))),
+                                 (("w",), kept[0], 2, ((kept[0], 0), (kept[3], 1), (kept[5], 3)))])
+        words = EntriesByWords(made, made, "linked", within)
+        told = []
+        for where in paths(floor):
+            if not isinstance(part_at(floor, where), int) or len(where) == 6:
+                continue
+            for number in range(9):
+                changed = replaced(floor, where, number)
+                for limit in range(8):
+                    wanted = words.is_floor(limit, changed)
+                    self.assertIs(is_floor(made, made, "linked", within, limit, changed), wanted, (where, number, limit))
+                    told.append(wanted)
+        self.assertGreater(min(told.count(True), told.count(False)), 150)
+        # What is spent in a call back counts from its beginning, and goes on to count behind it.
+        for where, number, wanted in (((1, 3, 1, 1), 2, False), ((1, 3, 1, 1), 0, False), ((1, 3, 2, 1), 4, False),
+                                      ((1, 3, 2, 1), 2, True), ((0, 3, 2, 1), 4, False), ((0, 3, 2, 1), 2, True),
+                                      ((1, 2), 3, False), ((1, 2), 1, True), ((0, 3, 1, 1), 2, False)):
+            self.assertEqual(is_floor(made, made, "linked", within, 7, replaced(floor, where, number)), wanted, where)
 
     def test_nothing_is_asked_of_what_costs_as_much(self):
         mixed = (("kept", 5), ("kept", 1))

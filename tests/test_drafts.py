@@ -121,8 +121,8 @@ class EachKind(unittest.TestCase):
         self.check("default f 4", NEWER.text().split("\n"))
         for mend in ("default f 3", "default box 1", "default none 1", "default two 2"):
             self.unknown(mend)
-        # Members of other names stay what they are.
-        made = edition("routine g open at 1 default", "end", "routine f open at 1", "end")
+        # Members of other names stay what they are, and first blocks of the same name.
+        made = edition("routine g open at 1 default", "end", "first f", "end", "routine f open at 1", "end")
         self.check("default f 1", lines_of(made, "routine f open at 1", "routine f open at 1 default"), made)
 
     def test_wants(self):
