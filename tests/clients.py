@@ -60,6 +60,7 @@ class Search:
         self.looks = [[f"tell {place}"] for place in places] + [[f"tell #{name}"] for name in elder.numbers]
         self.looks += [[f"there {name} else 1", "tell 1", "tell 2"] for name in names]
         self.least = None
+        self.most = 0
         self.count = 0
 
     def attempt(self, given, turns):
@@ -74,7 +75,7 @@ class Search:
         if outcome(client, first) != outcome(client, second):
             moves = moves_by_words(client, elder, newer, moment)
             self.least = moves if self.least is None else min(moves, self.least)
-            return None
+        # One that notices may do so earlier with a move more.
         return len([event for event in told_by(client, first) if event[0] == "out"])
 
     def extend(self, given, turns, most):
@@ -82,7 +83,8 @@ class Search:
         backs = self.attempt(given, turns)
         if backs is None:
             return
-        for turn in range(backs + 1):
+        # Behind more calls back than that, a client has more moves than are asked for.
+        for turn in range(min(backs, self.most) + 1):
             own = turns.get(turn, [])
             for look in self.looks:
                 self.attempt(given, {**turns, turn: own + look})
@@ -90,10 +92,14 @@ class Search:
                 self.extend(given, {**turns, turn: own + move}, most - 1)
 
     def go(self, most):
-        """The least moves of a client that notices and does at most so many moves itself, or None."""
+        """The least moves of a client that notices, or None; all clients are tried that have at most so many moves."""
+        self.most = most
         elder, newer, _ = self.question
         others = sorted(set(elder.entries() + newer.entries()) - set(elder.wants))
         for chosen in range(2 ** len(others)):
             given = list(elder.wants) + [name for at, name in enumerate(others) if chosen >> at & 1]
             self.extend(given, {0: []}, most)
+            # What a stage refuses is noticed whether or not a run comes to it.
+            for rows in self.moves + self.looks:
+                self.attempt(given, {0: ["end"] + rows})
         return self.least
